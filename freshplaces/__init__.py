@@ -1,0 +1,1 @@
+"""Kept values: where they are right, and the cheapest updates."""
