@@ -53,7 +53,7 @@ def _with_row(found, row):
     if not any(rest):
         return found
     place = _first_place(rest)
-    one = _leading_above_zero(_without_factor(rest), place)
+    one = _leading_above_zero(without_factor(rest), place)
     others = [_cleared(other, one, place) for other in found]
     ahead = [other for other in others if _first_place(other) < place]
     behind = [other for other in others if _first_place(other) > place]
@@ -76,10 +76,10 @@ def _cleared(row, one, place):
     if row[place] == 0:
         return row
     factor = one[place]
-    return _without_factor([number * factor - row[place] * other for number, other in zip(row, one)])
+    return without_factor([number * factor - row[place] * other for number, other in zip(row, one)])
 
 
-def _without_factor(numbers):
+def without_factor(numbers):
     """The row of these numbers, divided by what is common to all of them."""
     common = 0
     for number in numbers:
@@ -105,4 +105,4 @@ def _kernel_row(found, leading, free, width):
     numbers[free] = scale
     for row, place in zip(found, leading):
         numbers[place] = -row[free] * (scale // row[place])
-    return _without_factor(numbers)
+    return without_factor(numbers)
