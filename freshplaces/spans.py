@@ -25,5 +25,5 @@ class Span:
         """An equation, changed by the first one so that its product with the new row is 0."""
         if products[at] == 0:
             return self._equations[at]
-        pairs = zip(self._equations[at], self._equations[first])
-        return without_factor([number * products[first] - other * products[at] for number, other in pairs])
+        return without_factor([number * products[first] - other * products[at]
+                               for number, other in zip(self._equations[at], self._equations[first])])

@@ -1,7 +1,6 @@
 """The values with which runs arrive at places, and where kept variables are right."""
 
-from freshplaces.actions import check_updates
-from freshplaces.arguments import MOST_FAULTS, check_faults, check_start
+from freshplaces.arguments import MOST_FAULTS, check_arguments
 from freshplaces.codes import Code
 from freshplaces.errors import UnknownName, UnknownProcedure
 from freshplaces.places import is_place, uses_of
@@ -16,9 +15,7 @@ class States:
     """The values at the places of a program, in all runs that miss at most faults of the updates."""
 
     def __init__(self, program, updates=(), start="right", faults=0):
-        check_updates(program, updates)
-        check_start(start)
-        check_faults(faults)
+        check_arguments(program, updates, start, faults)
         code = Code(program)
         walk = Walk(code, plan_of(program, code.frame, updates), start, faults)
         walk.go(False)
@@ -85,17 +82,14 @@ class States:
 
 def is_right(program, updates=(), start="right", faults=0):
     """Whether at all uses the kept variable is right in all runs."""
-    check_updates(program, updates)
-    check_start(start)
-    check_faults(faults)
+    check_arguments(program, updates, start, faults)
     code = Code(program)
     return stale_run(code, plan_of(program, code.frame, updates), start, faults) is None
 
 
 def tolerance(program, updates=(), start="right"):
     """The greatest number of missed updates with which all uses are right in all runs; None if there is none."""
-    check_updates(program, updates)
-    check_start(start)
+    check_arguments(program, updates, start, 0)
     right = [faults for faults in range(MOST_FAULTS + 1) if is_right(program, updates, start, faults)]
     return max(right) if right else None
 
