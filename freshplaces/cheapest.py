@@ -45,7 +45,7 @@ def is_cheapest(program, candidates, value, *, weights=None, start="right", faul
     if updates is not None and not is_paper(program, updates, shown, start, faults):
         return False
     for run in given:
-        trials.add(run)
+        trials.include(run)
     return all([trials.refute(before) for before in _before(program, candidates, weights, updates)])
 
 
@@ -99,7 +99,7 @@ def _found(program, candidates, weights, start, faults):
         if run is None:
             return (updates, found)
         found.append(run)
-        trials.add(run)
+        trials.include(run)
     return (None, found)
 
 

@@ -30,7 +30,7 @@ class Frame:
 
     def factor_with(self, kept, base):
         """The factor with which the kept variable of a column depends on the base variable of another one."""
-        return dict(self.unfolded[kept]).get(base, 0)
+        return dict(self.unfolded[kept])[base]
 
     def is_right(self, column, row):
         """Whether the kept variable of a column is right with the values of a row."""

@@ -27,9 +27,10 @@ def flow_amount(program, kept, value, *, weights=None, start="right"):
     check_start(start)
     if not isinstance(value, tuple) or not all([_is_part(part) for part in value]):
         return None
-    amounts = dict(value)
     bounds = Network(program, kept, weights, start).bounds
-    if len(amounts) < len(value) or not all([_can_flow(bounds, pair, amount) for pair, amount in value]):
+    if not all([_can_flow(bounds, pair, amount) for pair, amount in value]):
+        return None
+    if len({pair: True for pair, _ in value}) < len(value):
         return None
     surplus = {STALE: 0, FRESH: 0}
     for (one, other), amount in value:

@@ -89,8 +89,9 @@ def reached_points(pairs, first):
     found = {first: True}
     waiting = [first]
     while waiting:
-        for point in following.get(waiting.pop(), []):
-            if point not in found:
-                found[point] = True
-                waiting.append(point)
+        point = waiting.pop()
+        for other in following.get(point, []):
+            if other not in found:
+                found[other] = True
+                waiting.append(other)
     return found

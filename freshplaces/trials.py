@@ -19,8 +19,8 @@ class Trials:
         """The plan of updates of the candidates."""
         return Plan([self._deeds[action] for action in updates])
 
-    def add(self, run):
-        """Adds a run; one that exceeds the limit counts as none."""
+    def include(self, run):
+        """Includes a run; one that exceeds the limit counts as none."""
         entry, choices, missed = run
         course = Course(self.code.steps, choices)
         if not course.is_too_long:

@@ -73,7 +73,7 @@ class ChangeAt(unittest.TestCase):
             self.assertIs(caught.exception.name, value)
             with self.assertRaises(InvalidCarry) as caught:
                 change_at(PROGRAM, 'p', value if value != 0 else 9, value)
-            if value != 'k':
+            if not isinstance(value, str) or value != 'k':
                 with self.assertRaises(InvalidCarry) as caught:
                     change_at(PROGRAM, 'p', 0, value)
                 self.assertEqual(caught.exception.place, 0)

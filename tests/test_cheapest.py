@@ -264,13 +264,15 @@ class IsCheapest(unittest.TestCase):
 
     def test_any_value(self):
         run = self.runs[0]
-        runs = [list(self.runs), None, 'x', run, (run[:2],), (run + ((),),), (list(run),), (None,), ((None, None, None),), ((),), 5,
-                ((run[0], list(run[1]), run[2]),), ((list(run[0]), run[1], run[2]),), ((run[0], run[1], list(run[2])),),
-                ((run[0], (True,), run[2]),), (((True,), run[1], run[2]),), ((run[0], (None,), run[2]),), ((run[0], (1.0,), ()),),
-                (((), run[1], run[2]),), (Agreeing(),), ((Agreeing(), Agreeing(), Agreeing()),), self.runs + (None,),
-                self.runs + (((0,), (1,)),), ({run: 1},), {run: 1}, self.runs + (((0,), '1', ()),), self.runs + (('0', (1,), ()),)]
-        for other in runs:
+        for other in [list(self.runs), None, 'x', run, 5, {run: 1}, self.runs[0], Agreeing(), [run]]:
             self.assertIs(self.accepts((self.updates, other, self.paper)), False, other)
+        self.assertIs(self.accepts((self.updates, self.runs + (run,), self.paper)), True)
+        for other in [run[:2], run + ((),), list(run), None, (None, None, None), (), (run[0], list(run[1]), run[2]), {run: 1},
+                      (list(run[0]), run[1], run[2]), (run[0], run[1], list(run[2])), (run[0], (True,), run[2]),
+                      ((True,), run[1], run[2]), (run[0], (None,), run[2]), (run[0], (1.0,), ()), ((), run[1], run[2]), Agreeing(),
+                      (Agreeing(), Agreeing(), Agreeing()), ((0,), (1,)), ((0,), '1', ()), ('0', (1,), ()), ((0,), (1, False), ()),
+                      ((0,), None, ()), ((0,), {1: 1}, ()), (None, (1,), ()), ((0,), (1,), None), ((0,), (1,), {}), 'abc', 7]:
+            self.assertIs(self.accepts((self.updates, self.runs + (other,), self.paper)), False, other)
         for value in [*strange_values(), list(self.value), self.value[:2], self.value + (None,), self.updates, (self.value,),
                       (None,) * 3, (Agreeing(),) * 3, ((), (), ()), 'abc']:
             self.assertIs(self.accepts(value), False, value)
@@ -321,6 +323,7 @@ class HarmfulAndSpare(unittest.TestCase):
         self.assertEqual(spare(program, ()), [])
         self.assertEqual(spare(program=program, updates=every, start='any', faults=0), list(every))
         self.assertEqual(spare(program, (every[0], every[3]), faults=0), [every[0], every[3]])
+        self.assertEqual(spare(program, (every[0], every[3])), [every[0], every[3]])
         self.assertEqual(spare(program, (every[0], every[3]), faults=1), [])
         self.assertEqual(spare(program, (every[0], every[2], every[3]), faults=1), [every[0], every[2], every[3]])
         worse = Program.read('base a b kept k = a - b def main { a = a + 1 b = b + 1 tell k }')

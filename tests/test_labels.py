@@ -160,6 +160,26 @@ class Coarse(unittest.TestCase):
             wanted = min(3 * great[1], 2 * great[2], 2 * great[3] + 2 * great[4])
             self.assertEqual(self.check(program, 'k', weights, 'right'), wanted)
 
+    def test_a_flow_that_has_to_give_way(self):
+        """The first change has a short way to the last use, which is the only one that the second change reaches."""
+        program = Program.read('base a b kept k = a def main { if { a = 1 if { tell b tell b tell b tell k } else { } } '
+                               'else { a = 2 tell b tell b tell b } tell k }')
+        for weights, wanted in [(None, 4), ({('main', 1): 3}, 4), ({('main', 1): 3, ('main', 2): 3, ('main', 11): 2}, 6), ({('main', 6): 0}, 2),
+                                ({('main', 7): 5, ('main', 1): 9, ('main', 2): 9, ('main', 11): 7}, 16)]:
+            self.assertEqual(self.check(program, 'k', weights, 'right'), wanted)
+
+    def test_flows_in_bushy_programs(self):
+        """Changes in many branches, each of which reaches some of the uses."""
+        draws = Draws(124)
+        for _ in range(150):
+            parts = ['if { a = 1 ' + 'tell b ' * draws.below(3) + '} ' for _ in range(3)]
+            inner = ''.join('if { ' + draws.one_of(['a = ? ', 'tell b ', 'fresh k ']) + draws.one_of(['tell k ', 'tell b tell b ', ''])
+                            + '} else { ' + draws.one_of(['tell k ', 'a = 2 ', 'tell b ']) + '} ' for _ in range(4))
+            text = 'base a b kept k = a def main { ' + ''.join(parts) + inner + 'call p tell k } def p { ' + inner + '}'
+            program = Program.read(text)
+            spots = [(name, place) for name in program.procedures for place, _ in program.statements(name)]
+            self.check(program, 'k', {spot: draws.below(6) for spot in spots}, ('right', 'any')[draws.below(2)])
+
     def test_nothing_to_do(self):
         for text in ['def main { }', 'def main { tell k }', 'def main { a = 1 fresh k tell k }', 'def main { a = 1 }']:
             self.assertEqual(coarse(Program.read('base a kept k = a ' + text), 'k'), ((), ()))
@@ -198,6 +218,12 @@ class FlowAmount(unittest.TestCase):
         for at, (pair, amount) in enumerate(FLOW):
             for other in (amount - 1, amount + 1, 0, -2, True, False, None, 2.0, '2', (2,)):
                 self.assertIs(flow_amount(LOOP, 'k', FLOW[:at] + ((pair, other),) + FLOW[at + 1:]), None)
+
+    def test_amounts_of_nothing(self):
+        for pair in [(('come', 'main', 1), ('ready', 'main', 1)), (('ready', 'main', 0), ('gone', 'main', 0))]:
+            for amount in (0, False, -1):
+                self.assertIs(flow_amount(LOOP, 'k', FLOW + ((pair, amount),)), None)
+                self.assertIs(flow_amount(LOOP, 'k', ((pair, amount),)), None)
 
     def test_parts_left_out_or_doubled(self):
         for at, part in enumerate(FLOW):

@@ -131,6 +131,32 @@ class Language(unittest.TestCase):
             self.assertFalse(node.decorator_list)
             self.assertFalse(set(methods) & stored, name)
 
+    def test_attributes_are_assigned_through_local_names(self):
+        for name, node in nodes(ast.Attribute):
+            if isinstance(node.ctx, ast.Store):
+                self.assertIsInstance(node.value, ast.Name, (name, node.lineno))
+                self.assertTrue(node.value.id[0].islower(), (name, node.lineno))
+
+    def test_what_a_loop_goes_over_is_not_modified_in_it(self):
+        changing = {'append', 'clear', 'extend', 'insert', 'pop', 'remove', 'reverse', 'setdefault', 'update'}
+        for name, node in nodes(ast.For):
+            over = ast.dump(node.iter)
+            for part in [part for line in node.body for part in ast.walk(line)]:
+                if isinstance(part, ast.Call) and isinstance(part.func, ast.Attribute) and part.func.attr in changing:
+                    self.assertNotIn(ast.dump(part.func.value), over, (name, part.lineno))
+                if isinstance(part, ast.Attribute) and isinstance(part.ctx, ast.Store):
+                    self.assertNotIn(ast.dump(part).replace('Store', 'Load'), over, (name, part.lineno))
+                if isinstance(part, ast.Subscript) and isinstance(part.ctx, ast.Store):
+                    self.assertNotIn(ast.dump(part.value), over, (name, part.lineno))
+
+    def test_what_a_finally_holds(self):
+        for name, node in nodes(ast.Try):
+            for line in node.finalbody:
+                self.assertIsInstance(line, ast.Assign, (name, line.lineno))
+                self.assertFalse([part for part in ast.walk(line) if isinstance(part, (ast.Call, ast.Subscript, ast.BinOp))])
+            for handler in node.handlers:
+                self.assertIsInstance(handler.type, ast.Name, (name, handler.lineno))
+
     def test_generators_have_names_of_their_own(self):
         functions = [node for _, node in nodes(ast.FunctionDef)]
         for node in functions:
