@@ -85,7 +85,7 @@ def _ordered(program, candidates, weights):
     found = [(0, ())]
     for index, cost in enumerate(costs):
         found.extend([(total + cost, chosen + (index,)) for total, chosen in list(found)])
-    return [tuple([candidates[index] for index in chosen]) for _, chosen in sorted(found)]
+    return [tuple([candidates[at] for at in chosen]) for _, chosen in sorted(found)]
 
 
 def _found(program, candidates, weights, start, faults):

@@ -149,6 +149,21 @@ class Language(unittest.TestCase):
                 if isinstance(part, ast.Subscript) and isinstance(part.ctx, ast.Store):
                     self.assertNotIn(ast.dump(part.value), over, (name, part.lineno))
 
+    def test_comprehensions_inside_others_have_variables_of_their_own(self):
+        def bound(part):
+            return {name.id for name in ast.walk(part) if isinstance(name, ast.Name) and isinstance(name.ctx, ast.Store)}
+
+        kinds = (ast.ListComp, ast.DictComp, ast.SetComp, ast.Lambda)
+        for name, function in nodes(ast.FunctionDef):
+            for outer in [part for part in ast.walk(function) if isinstance(part, kinds)]:
+                for inner in [part for part in ast.walk(outer) if isinstance(part, kinds) and part is not outer]:
+                    own = bound(inner)
+                    others = {argument.arg for argument in function.args.args}
+                    for part in ast.walk(function):
+                        if isinstance(part, ast.Name) and isinstance(part.ctx, ast.Store) and part not in list(ast.walk(inner)):
+                            others.add(part.id)
+                    self.assertFalse(own & others, (name, function.name, own & others))
+
     def test_what_a_finally_holds(self):
         for name, node in nodes(ast.Try):
             for line in node.finalbody:
