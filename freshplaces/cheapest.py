@@ -57,7 +57,8 @@ def harmful(program, updates, action, *, start="right", faults=0):
     if action in updates or not is_right(program, updates, start, faults):
         return None
     code = Code(program)
-    return stale_run(code, plan_of(program, code.frame, updates + (action,)), start, faults)
+    plan = plan_of(program, code.frame, updates + (action,))
+    return stale_run(code, plan, code.frame.first_entries(start), faults)
 
 
 def spare(program, updates, *, start="right", faults=0):
@@ -91,11 +92,12 @@ def _ordered(program, candidates, weights):
 def _found(program, candidates, weights, start, faults):
     """What cheapest returns: whatever no run so far refutes is right, or there is one more run."""
     trials = Trials(program, candidates)
+    entries = trials.code.frame.first_entries(start)
     found = []
     for updates in _ordered(program, candidates, weights):
         if trials.refute(updates):
             continue
-        run = stale_run(trials.code, trials.plan(updates), start, faults)
+        run = stale_run(trials.code, trials.plan(updates), entries, faults)
         if run is None:
             return (updates, found)
         found.append(run)

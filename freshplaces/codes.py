@@ -1,4 +1,4 @@
-"""Codes: the start of a program as one list of steps, in which each call stands as the steps of what it calls."""
+"""Codes: a procedure as one list of steps, in which each call stands as the steps of what it calls."""
 
 from freshplaces.actions import SIZES_OF_CARRIES, size_of_fresh
 from freshplaces.expressions import variables_of
@@ -25,13 +25,13 @@ class Step:
 
 
 class Code:
-    """The steps of the start of a program, in the order in which a pass goes through them."""
+    """The steps of a procedure, the start if none is named, in the order in which a pass goes through them."""
 
-    def __init__(self, program):
+    def __init__(self, program, name=None):
         self.frame = Frame(program)
         self.steps = []
         self._program = program
-        self._add_procedure(program.start)
+        self._add_procedure(program.start if name is None else name)
         self._add("end", None)
 
     def _add(self, word, spot):

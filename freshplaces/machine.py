@@ -50,12 +50,17 @@ class Machine:
 
     def runs(self, entry, most, inputs=(0, 1)):
         """Yields (choices, outcome) for each run that takes at most so many choices and stays within the limit."""
+        for course, done in self.performed_runs(entry, most, inputs):
+            yield (list(course.choices), _outcome(done, course))
+
+    def performed_runs(self, entry, most, inputs):
+        """Yields (course, performance) for each of these runs."""
         self._check_entry(entry)
         choices = []
         while choices is not None:
             course = Course(self._code.steps, choices, inputs[0], most)
             if course.has_ended:
-                yield (list(course.choices), _outcome(self._performed(entry, course, ()), course))
+                yield (course, self._performed(entry, course, ()))
             choices = _following(course, inputs)
 
     def within(self, updates, call):
@@ -77,7 +82,7 @@ class Machine:
     def _course(self, entry, choices, missed):
         """The course of a run with these arguments, which may be any values."""
         self._check_entry(entry)
-        if not isinstance(choices, list) or not all([is_whole(choice) for choice in choices]):
+        if not are_choices(choices):
             raise InvalidChoices(choices)
         if not is_missed(missed):
             raise InvalidChoices(missed)
@@ -91,6 +96,11 @@ class Machine:
         for step, number in course.begun:
             done.begin(step, number)
         return done
+
+
+def are_choices(value):
+    """Whether any value is a list of integers."""
+    return isinstance(value, list) and all([is_whole(choice) for choice in value])
 
 
 def is_missed(value):

@@ -12,7 +12,7 @@ def paper(program, updates=(), start="right", faults=0):
     """A paper that is right; None if not all uses are right."""
     check_arguments(program, updates, start, faults)
     code = Code(program)
-    walk = Walk(code, plan_of(program, code.frame, updates), start, faults)
+    walk = Walk(code, plan_of(program, code.frame, updates), code.frame.first_entries(start), faults)
     walk.go(True)
     if walk.stale_use_made is not None:
         return None

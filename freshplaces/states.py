@@ -17,7 +17,7 @@ class States:
     def __init__(self, program, updates=(), start="right", faults=0):
         check_arguments(program, updates, start, faults)
         code = Code(program)
-        walk = Walk(code, plan_of(program, code.frame, updates), start, faults)
+        walk = Walk(code, plan_of(program, code.frame, updates), code.frame.first_entries(start), faults)
         walk.go(False)
         self._program = program
         self._frame = code.frame
@@ -84,7 +84,7 @@ def is_right(program, updates=(), start="right", faults=0):
     """Whether at all uses the kept variable is right in all runs."""
     check_arguments(program, updates, start, faults)
     code = Code(program)
-    return stale_run(code, plan_of(program, code.frame, updates), start, faults) is None
+    return stale_run(code, plan_of(program, code.frame, updates), code.frame.first_entries(start), faults) is None
 
 
 def tolerance(program, updates=(), start="right"):

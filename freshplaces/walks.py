@@ -26,7 +26,9 @@ class Trace:
 
 
 class Walk:
-    """Goes through the steps of a code along all runs that miss at most faults of the deeds of a plan.
+    """Goes through the steps of a code along all runs from the span of some entries.
+
+    The runs miss at most faults of the deeds of a plan.
 
     A trace is left if those that came there before, and miss as many, span its values: what follows from it is
     spanned by what follows from them, because each statement is linear. Traces with fewer statements come first, so
@@ -34,7 +36,7 @@ class Walk:
     of the traces that are kept there, with the values there.
     """
 
-    def __init__(self, code, plan, start, faults):
+    def __init__(self, code, plan, entries, faults):
         self.arrivals = {}
         self.stale_use_made = None
         self._code = code
@@ -42,9 +44,7 @@ class Walk:
         self._faults = faults
         self._spans = {}
         self._traces = {}
-        frame = code.frame
-        entries = frame.first_entries(start)
-        self._now = [(0, Trace(frame.row_of(entry), entry, (), (), 0)) for entry in entries]
+        self._now = [(0, Trace(code.frame.row_of(entry), entry, (), (), 0)) for entry in entries]
         self._later = []
 
     def go(self, until_stale):
@@ -114,8 +114,8 @@ class Walk:
         return True
 
 
-def stale_run(code, plan, start, faults):
+def stale_run(code, plan, entries, faults):
     """A run (entry, choices, missed) that makes a use of a kept variable that is not right; None if there is none."""
-    walk = Walk(code, plan, start, faults)
+    walk = Walk(code, plan, entries, faults)
     walk.go(True)
     return None if walk.stale_use_made is None else walk.stale_use_made.parts()

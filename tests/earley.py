@@ -1,4 +1,4 @@
-"""The grammar of programs, as the document writes it, and a recogniser that knows which tokens may follow."""
+"""The grammars of programs and questions, as the document writes them, and a recogniser that knows what may follow."""
 
 RULES = {
     'PROGRAM': ['base NAMES KEPTS HANDLERS PROCEDURES'],
@@ -15,27 +15,33 @@ RULES = {
     'LIST': ['NAME', 'LIST , NAME'],
     'EXPR': ['TERM', '- TERM', 'EXPR + TERM', 'EXPR - TERM'],
     'TERM': ['NUMBER', 'NAME', 'NUMBER * NAME'],
+    'QUESTION': ['some COND', 'no COND', 'count COND', 'every COND then COND'],
+    'COND': ['BOTH', 'COND or BOTH'],
+    'BOTH': ['ONE', 'BOTH and ONE'],
+    'ONE': ['not ONE', '( COND )', 'any', 'procedure NAME', 'place NUMBER', 'kept NAME', 'verdict right', 'verdict stale',
+            'depends NAME'],
 }
 RULES = {head: [body.split() for body in bodies] for head, bodies in RULES.items()}
 WORDS = 'base kept handlers def if else while tell fresh carry call pause'.split()
 
 
-def symbol_of(token):
-    if token in WORDS or token in list('=+-*?{},'):
-        return token
-    return 'NUMBER' if token.isdigit() else 'NAME'
+def symbols_of(token):
+    """What a token may be; a word of questions may also be a name."""
+    if token in WORDS or token in list('=+-*?{},()'):
+        return [token]
+    return ['NUMBER'] if token.isdigit() else ['NAME', token]
 
 
 class Recogniser:
-    """Goes through symbols; accepts(symbol) tells whether some text of the grammar goes on so."""
+    """Goes through tokens; accepts(symbols) tells whether some text of the grammar goes on with one of these symbols."""
 
     def __init__(self, goal):
         self.goal = goal
         self.sets = [self._closed({(goal, tuple(body), 0, 0) for body in RULES[goal]}, 0)]
 
-    def accepts(self, symbol):
+    def accepts(self, symbols):
         after = {(head, body, dot + 1, start) for head, body, dot, start in self.sets[-1]
-                 if dot < len(body) and body[dot] == symbol}
+                 if dot < len(body) and body[dot] in symbols}
         if not after:
             return False
         self.sets.append(None)
@@ -68,6 +74,6 @@ def first_wrong(tokens, goal='PROGRAM'):
     """The index of the first token that cannot stand there; len(tokens) if more is needed; None if all is well."""
     recogniser = Recogniser(goal)
     for index, token in enumerate(tokens):
-        if not recogniser.accepts(symbol_of(token)):
+        if not recogniser.accepts(symbols_of(token)):
             return index
     return None if recogniser.is_complete() else len(tokens)

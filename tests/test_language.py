@@ -14,7 +14,7 @@ ArithmeticError OverflowError RuntimeError NotImplementedError AttributeError Ex
 classmethod staticmethod super'''.split())
 METHODS = set('''append clear copy count endswith extend find get index insert isalnum isalpha isdigit islower isspace
 isupper items join keys ljust lower lstrip partition pop remove replace reverse rfind rjust rpartition rsplit rstrip
-setdefault split splitlines startswith strip update upper values zfill bit_length'''.split())
+setdefault split splitlines startswith strip update upper values zfill bit_length removeprefix removesuffix'''.split())
 SPECIAL = set('''__init__ __eq__ __repr__ __str__ __len__ __enter__ __exit__ __call__ __iter__ __contains__ __or__
 __and__ __invert__'''.split())
 STATEMENTS = (ast.Assign, ast.AugAssign, ast.If, ast.While, ast.For, ast.Return, ast.Break, ast.Continue, ast.Pass,
@@ -185,7 +185,8 @@ class Language(unittest.TestCase):
             imported |= {node.name for node in tree.body if isinstance(node, ast.ClassDef)}
             bound = {node.id for node in ast.walk(tree) if isinstance(node, ast.Name) and isinstance(node.ctx, ast.Store)}
             bound |= {node.arg for node in ast.walk(tree) if isinstance(node, ast.arg)}
-            bound |= {node.name for node in ast.walk(tree) if isinstance(node, ast.FunctionDef)}
+            methods = [part for node in tree.body if isinstance(node, ast.ClassDef) for part in node.body]
+            bound |= {node.name for node in ast.walk(tree) if isinstance(node, ast.FunctionDef) and node not in methods}
             self.assertFalse(imported & bound, path)
 
 
