@@ -1,7 +1,6 @@
 """What handlers cost: which actions are inside them, and which uses they make stale."""
 
 from freshplaces.actions import check_updates, cost
-from freshplaces.arguments import check_arguments
 from freshplaces.cheapest import cheapest
 from freshplaces.errors import UnknownName
 from freshplaces.programs import Program
@@ -36,10 +35,10 @@ def without(program, name):
 
 def blamed(program, updates=(), *, start="right"):
     """The list of the tuples (procedure, place, kept, handler) of uses that can be stale, but not without a handler."""
-    check_arguments(program, updates, start, 0)
+    stale = States(program, updates, start).stale_uses()
     others = [(handler, States(without(program, handler), updates, start)) for handler in program.handlers]
     found = []
-    for name, place, kept in States(program, updates, start).stale_uses():
+    for name, place, kept in stale:
         found.extend([(name, place, kept, handler) for handler, states in others if states.is_right(name, place, kept)])
     return found
 

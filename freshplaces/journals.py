@@ -71,7 +71,7 @@ def _line(index, text):
 def _event_of(text):
     """The event with a text; None if it is not just the text of an event."""
     event = _read(text)
-    return event if event is not None and _text_of(event) == text else None
+    return event if _text_of(event) == text else None
 
 
 def _text_of(event):

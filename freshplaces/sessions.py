@@ -1,7 +1,6 @@
 """Sessions, which keep the cheapest updates of a program while events change it."""
 
 from freshplaces.actions import cost
-from freshplaces.arguments import check_start
 from freshplaces.cheapest import cheapest
 from freshplaces.drafts import Draft, draft_behind, word_between
 from freshplaces.errors import FreshError, InvalidTree
@@ -99,7 +98,6 @@ def unchanged(old, new, *, start="right"):
     """The list of the pairs (procedure, place) of a new program where statement and space are as in the old one."""
     if not isinstance(new, Program) or old.tree()[:2] != new.tree()[:2]:
         raise InvalidTree(new)
-    check_start(start)
     before = States(old, (), start)
     after = States(new, (), start)
     found = []

@@ -129,6 +129,12 @@ class Texts(unittest.TestCase):
             self.assertIs(caught.exception.value, text)
         self.assertEqual(read_event('edit p { ' + 'while { ' * 29 + '} ' * 29 + '}')[1], 'p')
 
+    def test_very_long_numbers(self):
+        for text in ['weigh main 0 ' + '1' * 5000, 'offer fresh main ' + '9' * 9000 + ' k', 'edit p { tell ' + '7' * 6000 + ' }']:
+            with self.assertRaises(InvalidText):
+                read_event(text)
+            self.assertEqual(recovered(line_by_hand(0, text)), [])
+
     def test_one_character_put_in_left_out_or_replaced(self):
         seen = [0, 0]
         for event, text in EVENTS:

@@ -131,6 +131,19 @@ class Language(unittest.TestCase):
             self.assertFalse(node.decorator_list)
             self.assertFalse(set(methods) & stored, name)
 
+    def test_exponents_are_literals(self):
+        for name, node in nodes(ast.BinOp):
+            if isinstance(node.op, ast.Pow):
+                self.assertIsInstance(node.right, ast.Constant, (name, node.lineno))
+                self.assertLessEqual(node.right.value, 64)
+
+    def test_properties_have_names_of_their_own(self):
+        properties = {node.name for _, node in nodes(ast.FunctionDef)
+                      if [mark for mark in node.decorator_list if isinstance(mark, ast.Name) and mark.id == 'property']}
+        stored = {node.attr for _, node in nodes(ast.Attribute) if isinstance(node.ctx, ast.Store)}
+        plain = {node.name for _, node in nodes(ast.FunctionDef) if not node.decorator_list}
+        self.assertFalse(properties & (stored | plain))
+
     def test_attributes_are_assigned_through_local_names(self):
         for name, node in nodes(ast.Attribute):
             if isinstance(node.ctx, ast.Store):
