@@ -109,6 +109,7 @@ def _are_parts(values, kinds):
 
 def _is_part(value, kind):
     if kind == "number":
+        # A number of far more than MOST_DIGITS digits could not even be written.
         return is_whole(value) and 0 <= value < 10 ** 60
     if kind == "word":
         return isinstance(value, str) and value in WORDS_OF_ACTIONS
